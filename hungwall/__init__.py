@@ -1,0 +1,1 @@
+"""Hungwall: pictures of told shapes, told who is beside whom."""

@@ -1,0 +1,77 @@
+"""Names, parameters and homes of all that the document's interface lists."""
+
+import importlib
+import inspect
+import unittest
+
+FUNCTIONS = {
+    "kinds": {
+        "is_integer": "thing", "is_quotient": "thing", "is_positive": "thing",
+        "is_shapes": "many thing", "is_table": "many thing",
+    },
+    "quotients": {
+        "plus": "one other", "minus": "one other", "times": "one other", "over": "one other",
+        "is_less": "one other",
+    },
+    "sums": {"total": "row", "weighed": "row others", "least_of": "row", "greatest_of": "row"},
+    "places": {
+        "side_after": "side", "side_opposite": "side", "is_place": "many thing",
+        "place_letter": "place",
+    },
+    "planchecker": {"lets_plan": "thing", "is_plan": "thing"},
+    "ties": {
+        "are_tied": "plan one other", "ties_of": "plan", "place_after": "plan picture place",
+        "place_ahead": "plan picture place", "row_of": "plan side",
+    },
+    "faces": {"faces_of": "plan", "faces_at": "plan one other"},
+    "sketches": {"read_sketch": "rows slant", "sketch_letters": "rows"},
+    "plantexts": {"plan_line": "plan", "shapes_line": "shapes"},
+    "planreadings": {"read_plan": "text", "read_shapes": "text"},
+}
+CLASSES = {
+    "planclasses": {
+        "Plan": {
+            "__init__": "circles", "__eq__": "other", "__len__": "", "__contains__": "thing",
+            "tied": "one other", "circle": "picture", "row": "side", "faces": "", "as_line": "",
+        },
+    },
+    "errors": {
+        "InvalidPaper": {"__init__": "word at"},
+        "NotUsable": {"__init__": "word at"},
+        "Unfit": {"__init__": "barring"},
+        "InvalidEvent": {"__init__": "event reason"},
+        "NothingToUndo": {"__init__": "steps"},
+        "InvalidSketch": {"__init__": "word at"},
+        "InvalidText": {"__init__": "line field"},
+    },
+}
+
+
+def parameters(function):
+    """The names of a function's parameters, between spaces."""
+    return " ".join(inspect.signature(function).parameters)
+
+
+class Interface(unittest.TestCase):
+    def test_functions(self):
+        for name, functions in FUNCTIONS.items():
+            module = importlib.import_module("hungwall." + name)
+            for word, told in functions.items():
+                with self.subTest(module=name, function=word):
+                    function = getattr(module, word)
+                    self.assertEqual(function.__module__, "hungwall." + name)
+                    self.assertEqual(parameters(function), told)
+
+    def test_classes(self):
+        for name, classes in CLASSES.items():
+            module = importlib.import_module("hungwall." + name)
+            for word, methods in classes.items():
+                self.assertEqual(getattr(module, word).__module__, "hungwall." + name)
+                for method, told in methods.items():
+                    with self.subTest(module=name, kind=word, method=method):
+                        function = vars(getattr(module, word))[method]
+                        self.assertEqual(parameters(function), ("self " + told).strip())
+
+
+if __name__ == "__main__":
+    unittest.main()
