@@ -35,10 +35,15 @@ def side_opposite(side):
     return (side + 6) % 4 - 4
 
 
+def is_place_among(many, thing):
+    """Whether any value is a side or one of so many pictures, many known to be a number."""
+    return is_side(thing) or is_picture(many, thing)
+
+
 def is_place(many, thing):
     """Whether any value is a side or one of so many pictures."""
     need(is_number(many), "many")
-    return is_side(thing) or is_picture(many, thing)
+    return is_place_among(many, thing)
 
 
 def decimal(number):

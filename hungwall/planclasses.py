@@ -3,7 +3,7 @@
 from hungwall.circles import row_in
 from hungwall.faces import faces_in
 from hungwall.needs import need
-from hungwall.places import is_picture, is_place, is_side
+from hungwall.places import is_picture, is_place, is_place_among, is_side
 from hungwall.planchecker import is_plan
 from hungwall.plantexts import plan_text
 from hungwall.ties import tied_in
@@ -27,7 +27,7 @@ class Plan:
         if not isinstance(thing, tuple) or len(thing) != 2:
             return False
         one, other = thing
-        if not is_place(self.many, one) or not is_place(self.many, other):
+        if not is_place_among(self.many, one) or not is_place_among(self.many, other):
             return False
         return tied_in(self.circles, one, other)
 

@@ -2,7 +2,7 @@
 
 from hungwall.circles import after_in, ahead_in, row_in
 from hungwall.needs import need
-from hungwall.places import SIDES, is_picture, is_place, is_side, side_opposite
+from hungwall.places import SIDES, is_picture, is_place, is_side
 from hungwall.planchecker import is_plan
 
 SIDE_TIES = ((-4, -3), (-4, -1), (-3, -2), (-2, -1))
@@ -14,7 +14,8 @@ def tied_in(plan, one, other):
         return other in plan[one]
     if other >= 0:
         return one in plan[other]
-    return other != one and other != side_opposite(one)
+    # Of two sides that are tied one is even and the other odd.
+    return (one - other) % 2 == 1
 
 
 def tied_places(plan):

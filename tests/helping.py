@@ -142,7 +142,7 @@ class HungTest(unittest.TestCase):
         self.assertIs(type(got), tuple)
         self.assertEqual(list(got), sorted(set(got)))
 
-    def raises(self, kind, fields, call, *told, **named):
+    def raises(self, kind, fields, call, /, *told, **named):
         """The call raises just this error with just these fields."""
         kept = copy.deepcopy((told, named))
         with self.assertRaises(kind) as caught:
@@ -152,11 +152,11 @@ class HungTest(unittest.TestCase):
         self.assert_exactly(told, kept[0])
         self.assertEqual(named, kept[1])
 
-    def not_usable(self, word, call, *told, **named):
+    def not_usable(self, word, call, /, *told, **named):
         """The call raises NotUsable of this parameter."""
         self.raises(NotUsable, {"word": word, "at": -1}, call, *told, **named)
 
-    def no_paper(self, word, at, call, *told, **named):
+    def no_paper(self, word, at, call, /, *told, **named):
         """The call raises InvalidPaper with this word and place."""
         self.raises(InvalidPaper, {"word": word, "at": at}, call, *told, **named)
 

@@ -27,6 +27,26 @@ FUNCTIONS = {
     "sketches": {"read_sketch": "rows slant", "sketch_letters": "rows"},
     "plantexts": {"plan_line": "plan", "shapes_line": "shapes"},
     "planreadings": {"read_plan": "text", "read_shapes": "text"},
+    "turnings": {"mirrored": "plan", "flipped": "plan", "turned": "plan", "renumbered": "plan order"},
+    "settling": {"settled_order": "plan", "settled": "plan", "are_alike": "one other"},
+    "lots": {"hangs_together": "plan lot", "lot_parts": "plan lot", "rim_of": "plan lot"},
+    "rings": {"rings_of_three": "plan", "rings_of_four": "plan", "inside_of": "plan ring"},
+    "emptying": {"emptied": "plan"},
+    "insides": {
+        "inner_plan": "plan ring", "shut_plan": "plan ring", "laid_in": "outer picture first inner",
+    },
+    "growing": {
+        "parted": "plan picture first last", "can_join": "plan one other", "joined": "plan one other",
+    },
+    "tieturns": {
+        "can_turn": "plan one other", "turned_tie": "plan one other", "taken_out": "plan picture",
+    },
+    "growths": {"growth_of": "plan", "grown": "steps"},
+    "waykinds": {"is_way": "plan kind thing", "is_straight": "plan kind thing"},
+    "straightways": {
+        "straight_ways": "plan kind", "all_ways": "plan kind", "straightened": "plan kind way",
+    },
+    "twoways": {"holds_way": "plan kind lot", "two_ways": "plan lot"},
 }
 CLASSES = {
     "planclasses": {
@@ -35,6 +55,7 @@ CLASSES = {
             "tied": "one other", "circle": "picture", "row": "side", "faces": "", "as_line": "",
         },
     },
+    "ringclasses": {"Rings": {"__init__": "plan", "inside": "ring", "around": "picture"}},
     "errors": {
         "InvalidPaper": {"__init__": "word at"},
         "NotUsable": {"__init__": "word at"},

@@ -238,9 +238,11 @@ class Language(unittest.TestCase):
     def test_what_a_loop_goes_over_is_left_alone(self, tree):
         for loop in nodes(tree, ast.For):
             over = {node.id for node in nodes(loop.iter, ast.Name)}
-            calls = [node for row in loop.body for node in nodes(row, ast.Call)]
-            for node in calls:
-                if isinstance(node.func, ast.Attribute) and node.func.attr in CHANGING:
+            inside = [node for row in loop.body for node in nodes(row, ast.Call, ast.Subscript)]
+            for node in inside:
+                if isinstance(node, ast.Subscript) and not isinstance(node.ctx, ast.Load):
+                    self.assertNotIn(ast.unparse(node.value), over)
+                elif isinstance(getattr(node, "func", None), ast.Attribute) and node.func.attr in CHANGING:
                     self.assertNotIn(ast.unparse(node.func.value), over)
 
 
