@@ -35,6 +35,13 @@ def parts_in(plan, lot):
     return tuple(parts)
 
 
+def rim_in(plan, lot):
+    """The set of the places outside what is known to be a lot that are tied to a picture of it."""
+    beside = {place: True for picture in lot for place in plan[picture]}
+    places = SIDES + others_than(plan, lot)
+    return tuple([place for place in places if place in beside])
+
+
 def hangs_together(plan, lot):
     """Whether a lot hangs together."""
     need_lot(plan, lot)
@@ -50,6 +57,4 @@ def lot_parts(plan, lot):
 def rim_of(plan, lot):
     """The set of the places outside a lot that are tied to a picture of it."""
     need_lot(plan, lot)
-    beside = {place: True for picture in lot for place in plan[picture]}
-    places = SIDES + others_than(plan, lot)
-    return tuple([place for place in places if place in beside])
+    return rim_in(plan, lot)

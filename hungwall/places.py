@@ -9,6 +9,7 @@ E = -2
 S = -1
 SIDES = (-4, -3, -2, -1)
 LETTERS = "WNES"
+MOST_PICTURES = 40
 CHUNK = 1000000000000000000
 CHUNK_FIGURES = 18
 
@@ -21,6 +22,18 @@ def is_side(thing):
 def is_picture(many, thing):
     """Whether any value is one of so many pictures."""
     return is_integer(thing) and 0 <= thing < many
+
+
+def is_number_row(thing):
+    """Whether any value is a nonempty tuple of different numbers."""
+    if not isinstance(thing, tuple) or len(thing) == 0:
+        return False
+    return all([is_number(part) for part in thing]) and len(set(thing)) == len(thing)
+
+
+def is_picture_row(many, thing):
+    """Whether any value is a nonempty tuple of different ones of so many pictures."""
+    return is_number_row(thing) and max(thing) < many
 
 
 def side_after(side):

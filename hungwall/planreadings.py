@@ -6,10 +6,8 @@ A word that is not of its form is read as None.
 from hungwall.errors import InvalidText
 from hungwall.kinds import is_positive
 from hungwall.needs import need
-from hungwall.places import LETTERS
+from hungwall.places import LETTERS, MOST_PICTURES
 from hungwall.planchecker import is_plan
-
-MOST_PICTURES = 40
 
 
 def is_decimal(word):
@@ -27,13 +25,18 @@ def decimal_worth(word):
     return number
 
 
+def read_picture(word):
+    """The picture whose decimal a word is, or None."""
+    if not is_decimal(word) or len(word) > 2 or int(word) >= MOST_PICTURES:
+        return None
+    return int(word)
+
+
 def read_place(word):
     """The place whose letter a word is, or None."""
     if len(word) == 1 and word in LETTERS:
         return LETTERS.index(word) - 4
-    if not is_decimal(word) or len(word) > 2 or int(word) >= MOST_PICTURES:
-        return None
-    return int(word)
+    return read_picture(word)
 
 
 def read_circle(word, picture):

@@ -24,6 +24,16 @@ def product_of_two(one, other):
     return reduced(one[0] * other[0], one[1] * other[1])
 
 
+def difference_of_two(one, other):
+    """One minus other, both known to be quotients."""
+    return reduced(one[0] * other[1] - other[0] * one[1], one[1] * other[1])
+
+
+def ratio_of_two(one, other):
+    """One divided by other, both known to be quotients, other not nought."""
+    return reduced(one[0] * other[1], one[1] * other[0])
+
+
 def lies_below(one, other):
     """Whether one is less than other, both known to be quotients."""
     return one[0] * other[1] < other[0] * one[1]
@@ -44,7 +54,7 @@ def plus(one, other):
 def minus(one, other):
     """One minus other."""
     need_two(one, other)
-    return sum_of_two(one, (-other[0], other[1]))
+    return difference_of_two(one, other)
 
 
 def times(one, other):
@@ -57,7 +67,7 @@ def over(one, other):
     """One divided by other, which is not nought."""
     need_two(one, other)
     need(other[0] != 0, "other")
-    return reduced(one[0] * other[1], one[1] * other[0])
+    return ratio_of_two(one, other)
 
 
 def is_less(one, other):

@@ -30,9 +30,8 @@ def longer_straight(plan, first, way):
     return longer
 
 
-def straight_ways(plan, kind):
-    """The set of the straight ways of this kind."""
-    need_kind(plan, kind)
+def straight_in(plan, kind):
+    """The set of the straight ways of this kind of what is known to be a plan."""
     first, last = sides_of(kind)
     found = []
     stack = begun_ways(plan, first)
@@ -44,6 +43,21 @@ def straight_ways(plan, kind):
         else:
             stack.extend(longer_straight(plan, first, way))
     return tuple(found)
+
+
+def made_straight(plan, kind, way):
+    """The straight way that leaves out what it can of what is known to be a way of this kind."""
+    first, last = sides_of(kind)
+    found = [last_tied(plan, way, first)]
+    while last not in plan[found[-1]]:
+        found.append(last_tied(plan, way, found[-1]))
+    return tuple(found)
+
+
+def straight_ways(plan, kind):
+    """The set of the straight ways of this kind."""
+    need_kind(plan, kind)
+    return straight_in(plan, kind)
 
 
 def all_ways(plan, kind):
@@ -62,8 +76,4 @@ def straightened(plan, kind, way):
     """The straight way that leaves out what it can of a way."""
     need_kind(plan, kind)
     need(goes_through(plan, kind, way), "way")
-    first, last = sides_of(kind)
-    found = [last_tied(plan, way, first)]
-    while last not in plan[found[-1]]:
-        found.append(last_tied(plan, way, found[-1]))
-    return tuple(found)
+    return made_straight(plan, kind, way)

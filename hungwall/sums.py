@@ -1,5 +1,7 @@
 """Sums over rows of quotients, and the least and the greatest of a row."""
 
+from math import lcm
+
 from hungwall.kinds import is_row
 from hungwall.needs import need
 from hungwall.quotients import lies_below, product_of_two, sum_of_two
@@ -11,6 +13,21 @@ def sum_of_row(row):
     for part in row:
         found = sum_of_two(found, part)
     return found
+
+
+def over_one_bottom(row):
+    """The pair (tops, bottom): integers that, over one bottom, stand for what is known to be a row."""
+    bottom = 1
+    for part in row:
+        bottom = lcm(bottom, part[1])
+    return ([top * (bottom // below) for top, below in row], bottom)
+
+
+def ascending(row):
+    """The different quotients of what is known to be a row, ascending as numbers."""
+    tops, _ = over_one_bottom(row)
+    found = {top: part for top, part in zip(tops, row)}
+    return tuple([found[top] for top in sorted(found)])
 
 
 def total(row):

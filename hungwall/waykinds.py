@@ -1,7 +1,7 @@
 """Level and upright ways, and which of them are straight."""
 
 from hungwall.needs import need
-from hungwall.places import is_picture
+from hungwall.places import is_picture_row
 from hungwall.planchecker import is_plan
 from hungwall.ties import tied_in
 
@@ -25,11 +25,16 @@ def sides_of(kind):
     return ENDS[kind]
 
 
+def other_kind(kind):
+    """The other one of the two kinds."""
+    if kind == "level":
+        return "upright"
+    return "level"
+
+
 def goes_through(plan, kind, thing):
     """Whether any value is a way of this kind in what is known to be a plan."""
-    if not isinstance(thing, tuple) or len(thing) == 0:
-        return False
-    if not all([is_picture(len(plan), part) for part in thing]) or len(set(thing)) < len(thing):
+    if not is_picture_row(len(plan), thing):
         return False
     first, last = sides_of(kind)
     places = (first,) + thing + (last,)

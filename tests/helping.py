@@ -2,10 +2,14 @@
 
 import copy
 import itertools
+import math
 import random
 import unittest
 
 from hungwall.errors import InvalidPaper, NotUsable
+from hungwall.rings import rings_of_three
+from hungwall.ties import ties_of
+from hungwall.tieturns import can_turn, turned_tie
 
 W, N, E, S = SIDES = -4, -3, -2, -1
 ONE, TWO = ((W, N, E, S),), ((W, N, 1, S), (N, E, S, 0))
@@ -23,6 +27,11 @@ NOT_PLANS = (
     ((W, N, True, S), (N, E, S, 0)), ((W, N, 1, S), (N, E, S, False)), ((W, N, 1), (W, N, 0)),
 )
 NOT_INTEGERS = (None, True, False, "1", "", (), (1,), [1], ((),))
+NOT_POSITIVE = (
+    None, True, False, 0, 1, "", "1", (), [], (1,), [1, 1], (1, 1, 1), (0, 1), (-1, 1), (2, 4), (1, 0), (1, -1),
+    (True, 1), (1, True), ("1", "1"), (1, None), ((1, 1),),
+)
+NOT_TEXTS = (None, True, 0, (), [], ("level 0",), ["level 0"], b"level 0")
 NOT_KINDS = (None, True, 0, "", "Level", "level ", "across", ("level",), ["upright"], "falling")
 
 
@@ -42,6 +51,26 @@ def not_lots(many):
         None, True, 0, "", "0", [], [0], (True,), (False,), ("0",), ((0,),), (many,), (-1,), (W,),
         (0, 0), (many - 1, many - 1), (many, 0), (0, None), (0, [0]),
     )
+
+
+def not_rows(many):
+    """Values that are no tuples of so many positive quotients, four or more."""
+    good = ((1, 1),) * many
+    wrong = (
+        None, True, 0, "", "1", (1, 1), (), ((1, 1),), good + ((1, 1),), good[1:], [(1, 1)] * many,
+        ([1, 1],) + good[1:], good[1:] + ([1, 1],), ((True, 1),) + good[1:], ((1, True),) + good[1:],
+    )
+    return wrong + tuple(good[:-1] + (part,) for part in (None, 1, (2, 4), (1, 0), (-1, 1), (1, -1), (1, 1, 1), "1"))
+
+
+def not_shapes(many):
+    """Values that are no shapes of so many pictures, four or more."""
+    return not_rows(many) + (((1, 1),) * (many - 1) + ((0, 1),),)
+
+
+def not_tables(many):
+    """Values that are no tables for so many pictures, four or more."""
+    return not_rows(many) + (((0, 2),) * many,)
 
 
 def least_first(circle):
@@ -104,6 +133,44 @@ def pile(many):
     """The plan of so many pictures, two or more, one above the other."""
     middle = tuple((W, k - 1, E, k + 1) for k in range(1, many - 1))
     return ((W, N, E, 1),) + middle + ((W, many - 2, E, S),)
+
+
+def mixed_plan(many, seed, steps=40):
+    """A grown plan after turns of ties that do not add rings of three: so in few walls are all but some points."""
+    source = random.Random(seed)
+    plan = grown_plan(many, seed)
+    for _ in range(steps):
+        one, other = source.choice([tie for tie in ties_of(plan) if tie[1] >= 0])
+        if can_turn(plan, one, other):
+            new = turned_tie(plan, one, other)
+            if len(rings_of_three(new)) <= len(rings_of_three(plan)):
+                plan = new
+    return plan
+
+
+def mixed_plans(counts, seeds):
+    """Plans grown and mixed, some of each count."""
+    return [mixed_plan(many, 100 * many + seed) for many in counts for seed in seeds]
+
+
+def quotient_of(source, figures):
+    """A positive quotient with top and bottom of up to so many figures."""
+    top, bottom = source.randrange(1, 10 ** figures), source.randrange(1, 10 ** figures)
+    shared = math.gcd(top, bottom)
+    return (top // shared, bottom // shared)
+
+
+def kinds_of_shapes(many, seed):
+    """Shapes of several kinds: equal ones, a few simple ones, many, long and far ones."""
+    source = random.Random(seed)
+    far = ((1, 1), (10 ** 20 - 1, 1), (1, 10 ** 20 - 1), (10 ** 19 + 1, 10 ** 19))
+    return [
+        ((1, 1),) * many,
+        tuple(source.choice(((1, 1), (2, 1), (1, 2))) for _ in range(many)),
+        tuple(quotient_of(source, 1) for _ in range(many)),
+        tuple(quotient_of(source, 20) for _ in range(many)),
+        tuple(source.choice(far) for _ in range(many)),
+    ]
 
 
 def places_of(plan):

@@ -31,11 +31,12 @@ class Examples(unittest.TestCase):
                     exec(example.source, names)
 
     def test_stages(self):
-        stages = sorted(FOLDER.glob("stage_*.txt"))
+        stages = sorted(FOLDER.glob("stage_*.txt"), key=lambda path: int(path.stem.split("_")[1]))
         self.assertTrue(stages)
+        # As in the document, what a stage imports or names is there in later ones, too.
+        names = {}
+        self.run_file(FOLDER / "plans.txt", names)
         for path in stages:
-            names = {}
-            self.run_file(FOLDER / "plans.txt", names)
             self.run_file(path, names)
 
 

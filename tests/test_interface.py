@@ -47,12 +47,41 @@ FUNCTIONS = {
         "straight_ways": "plan kind", "all_ways": "plan kind", "straightened": "plan kind way",
     },
     "twoways": {"holds_way": "plan kind lot", "two_ways": "plan lot"},
+    "twochecker": {"lets_two": "plan lot thing"},
+    "leastlots": {
+        "meets_ways": "plan kind lot", "least_lots": "plan kind", "least_meeting": "plan kind",
+    },
+    "lengths": {
+        "length_of": "table way", "shortest_way": "plan kind table", "aheads": "plan kind table",
+    },
+    "followings": {
+        "followings": "plan kind", "way_through": "plan kind picture", "way_by": "plan kind one other",
+    },
+    "waytexts": {"way_line": "kind way"},
+    "wayreadings": {"read_way": "text"},
+    "tables": {"table_weight": "shapes table", "table_bar": "plan shapes table"},
+    "streams": {
+        "is_stream": "plan thing", "stream_amount": "stream", "stream_loads": "many stream",
+        "stream_bar": "plan shapes stream",
+    },
+    "leastwidths": {"widths_of": "plan shapes", "height_of": "plan shapes", "heights_of": "plan shapes"},
+    "hanging": {"hung": "plan shapes"},
+    "points": {"points_in": "plan shapes", "specks": "plan shapes"},
+    "walls": {
+        "is_box": "thing", "is_hanging": "thing", "has_points": "wall", "sizes_in": "wall", "shapes_in": "filling",
+    },
 }
 CLASSES = {
     "planclasses": {
         "Plan": {
             "__init__": "circles", "__eq__": "other", "__len__": "", "__contains__": "thing",
             "tied": "one other", "circle": "picture", "row": "side", "faces": "", "as_line": "",
+        },
+    },
+    "wayclasses": {
+        "Ways": {
+            "__init__": "plan kind", "__len__": "", "__contains__": "thing", "through": "picture", "by": "one other",
+            "shortest": "table", "holds": "lot",
         },
     },
     "ringclasses": {"Rings": {"__init__": "plan", "inside": "ring", "around": "picture"}},

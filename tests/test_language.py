@@ -7,7 +7,10 @@ import re
 import unittest
 
 ROOT = pathlib.Path(__file__).parent.parent / "hungwall"
-LIBRARY = {"math": {"gcd", "lcm", "isqrt", "comb", "perm", "factorial"}}
+LIBRARY = {
+    "math": {"gcd", "lcm", "isqrt", "comb", "perm", "factorial"},
+    "heapq": {"heappush", "heappop", "heapify", "heapreplace", "heappushpop"},
+}
 BUILTINS = set(
     "len range enumerate zip min max sum abs sorted reversed int str bool bytes list tuple dict set frozenset "
     "isinstance ord repr any all divmod pow Exception ValueError TypeError KeyError IndexError LookupError "
@@ -196,6 +199,9 @@ class Language(unittest.TestCase):
         names = bound(tree) | defined(tree)
         methods = {node.name for node in nodes(tree, ast.FunctionDef)}
         self.assertFalse((names | methods) & BARRED)
+        # The underscore alone is assigned and never read.
+        self.assertNotIn("_", read)
+        names.discard("_")
         self.assertFalse([name for name in names if hasattr(builtins, name) or name.startswith("_")])
         self.assertFalse([name for name in methods - SPECIAL if name.startswith("_")])
         self.assertFalse({node.attr for node in nodes(tree, ast.Attribute)} & BARRED)
