@@ -70,6 +70,23 @@ FUNCTIONS = {
     "walls": {
         "is_box": "thing", "is_hanging": "thing", "has_points": "wall", "sizes_in": "wall", "shapes_in": "filling",
     },
+    "judging": {"lets_hung": "plan shapes thing"},
+    "wallturns": {
+        "mirrored_boxes": "wall", "flipped_boxes": "wall", "turned_boxes": "wall", "stretched": "wall factor",
+    },
+    "slices": {"level_slices": "wall", "upright_slices": "wall"},
+    "slicepapers": {"slice_paper": "plan shapes"},
+    "slicechecker": {"lets_slices": "plan shapes thing"},
+    "borders": {"borders_of": "wall"},
+    "crossings": {"crossings_of": "wall"},
+    "readbacks": {"plan_in": "filling slant"},
+    "piles": {"piled": "one other", "put_beside": "one other"},
+    "cuts": {"free_heights": "wall", "free_abscissas": "wall", "cut_at": "wall height"},
+    "boxjoins": {
+        "makes_box": "wall one other", "joined_boxes": "wall one other",
+        "parted_boxes": "wall picture how share",
+    },
+    "painting": {"painted": "wall rows columns"},
 }
 CLASSES = {
     "planclasses": {
@@ -82,6 +99,11 @@ CLASSES = {
         "Ways": {
             "__init__": "plan kind", "__len__": "", "__contains__": "thing", "through": "picture", "by": "one other",
             "shortest": "table", "holds": "lot",
+        },
+    },
+    "hungclasses": {
+        "Hung": {
+            "__init__": "circles told", "__eq__": "other", "box": "picture", "meets": "one other", "fits": "thing",
         },
     },
     "ringclasses": {"Rings": {"__init__": "plan", "inside": "ring", "around": "picture"}},
