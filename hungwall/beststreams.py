@@ -79,8 +79,14 @@ def loads_over_shapes(ways, shares, eases):
     return [load * ease for load, ease in zip(loads, eases)]
 
 
-def best_lengths(plan, shapes):
-    """The pair (lengths, least): integers that, over their least level way's length, are the widths."""
+def mixed_lengths(ways, shares, eases):
+    """The pair of the lengths by a mixture of ways, and of the length of the first one."""
+    lengths = loads_over_shapes(ways, shares, eases)
+    return (lengths, sum([lengths[picture] for picture in ways[0]]))
+
+
+def best_mixture(plan, shapes):
+    """The triple (ways, lengths, least): the ways of the best mixture, and what best_lengths tells."""
     eases, scale = eases_of(shapes)
     ways, shares, lengths = [], [], [0] * len(plan)
     length, way = least_way(plan, "level", lengths)
@@ -88,7 +94,22 @@ def best_lengths(plan, shapes):
     while length < least:
         # A way that is not straight may be as short, where pictures have the length 0.
         ways, shares = remixed(ways + [made_straight(plan, "level", way)], shares + [0], eases, scale)
-        lengths = loads_over_shapes(ways, shares, eases)
-        least = sum([lengths[picture] for picture in ways[0]])
+        lengths, least = mixed_lengths(ways, shares, eases)
         length, way = least_way(plan, "level", lengths)
+    return (ways, lengths, least)
+
+
+def best_lengths(plan, shapes):
+    """The pair (lengths, least): integers that, over their least level way's length, are the widths."""
+    _, lengths, least = best_mixture(plan, shapes)
     return (lengths, least)
+
+
+def lengths_on(ways, shapes):
+    """The pair (lengths, least) by the best mixture of these ways alone, which all come to be as long as least.
+
+    So it is while by changed shapes the same ways make up the best mixture of
+    all; before and after, shares may be below 0, and other ways shorter.
+    """
+    eases, scale = eases_of(shapes)
+    return mixed_lengths(ways, best_shares(ways, eases, scale), eases)

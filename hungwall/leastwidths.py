@@ -16,6 +16,11 @@ def heights_by(shapes, widths):
     return tuple([product_of_two(shape, width) for shape, width in zip(shapes, widths)])
 
 
+def height_in(plan, shapes):
+    """The height of the wall; plan and shapes are known to fit."""
+    return weight_in(shapes, widths_in(plan, shapes))
+
+
 def widths_of(plan, shapes):
     """The widths of the boxes of the wall."""
     need_shapes(plan, shapes)
@@ -25,7 +30,7 @@ def widths_of(plan, shapes):
 def height_of(plan, shapes):
     """The height of the wall."""
     need_shapes(plan, shapes)
-    return weight_in(shapes, widths_in(plan, shapes))
+    return height_in(plan, shapes)
 
 
 def heights_of(plan, shapes):

@@ -98,10 +98,9 @@ def parting(plan, picture, first, last):
     return tuple(least_first(circle) for circle in circles)
 
 
-def grown_plan(many, seed):
-    """A plan of so many pictures, parted where a seeded source tells."""
+def grown_plan(many, seed, plan=ONE):
+    """A plan of so many pictures, parted from another one where a seeded source tells."""
     source = random.Random(seed)
-    plan = ONE
     while len(plan) < many:
         picture = source.randrange(len(plan))
         first, last = source.sample(plan[picture], 2)
@@ -133,6 +132,11 @@ def pile(many):
     """The plan of so many pictures, two or more, one above the other."""
     middle = tuple((W, k - 1, E, k + 1) for k in range(1, many - 1))
     return ((W, N, E, 1),) + middle + ((W, many - 2, E, S),)
+
+
+def spun_plans(counts, seeds):
+    """Plans parted from FIVE, some of each count: so some are often inside a ring of four pictures."""
+    return [grown_plan(many, 100 * many + seed, FIVE) for many in counts for seed in seeds]
 
 
 def mixed_plan(many, seed, steps=40):

@@ -87,6 +87,23 @@ FUNCTIONS = {
         "parted_boxes": "wall picture how share",
     },
     "painting": {"painted": "wall rows columns"},
+    "fates": {"fate_of": "plan picture", "fates_of": "plan"},
+    "passages": {"passages_of": "plan ring", "rings_around": "plan picture"},
+    "fatepapers": {"fate_paper": "plan picture"},
+    "fatechecker": {"lets_fate": "plan picture thing"},
+    "toldshapes": {
+        "shapes_for": "plan kind way", "shapes_by": "plan kind one other", "point_shapes": "plan picture",
+    },
+    "placings": {"placings_of": "plan one other"},
+    "brackets": {
+        "bracket": "plan shapes others", "same_widths": "plan shapes others", "same_heights": "plan shapes others",
+    },
+    "reshaping": {"reshaped": "shapes picture shape", "rises": "plan shapes picture"},
+    "stretches": {
+        "is_stretches": "many thing", "lows_of": "stretches", "highs_of": "stretches", "lies_in": "stretches shapes",
+    },
+    "ranges": {"range_of": "plan stretches", "raised_height": "plan stretches count"},
+    "ownfits": {"own_shape": "plan shapes picture height low high"},
 }
 CLASSES = {
     "planclasses": {
@@ -105,6 +122,15 @@ CLASSES = {
         "Hung": {
             "__init__": "circles told", "__eq__": "other", "box": "picture", "meets": "one other", "fits": "thing",
         },
+    },
+    "fillclasses": {
+        "Filled": {
+            "__init__": "filling", "slices": "kind", "borders": "", "crossings": "", "plan_by": "slant", "shapes_told": "",
+            "paint": "rows columns",
+        },
+    },
+    "fateclasses": {
+        "Fates": {"__init__": "circles", "fate": "picture", "shown_paper": "picture", "placings": "one other"},
     },
     "ringclasses": {"Rings": {"__init__": "plan", "inside": "ring", "around": "picture"}},
     "errors": {
