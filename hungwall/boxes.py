@@ -5,7 +5,7 @@ upper end.
 """
 
 from hungwall.places import E, N, W
-from hungwall.quotients import lies_below, sum_of_two
+from hungwall.quotients import lies_below, product_of_two, sum_of_two
 
 NOUGHT = (0, 1)
 UNIT = (1, 1)
@@ -53,3 +53,12 @@ def meets_side(edges, height, side):
     if side == E:
         return edges[1] == UNIT
     return edges[2] == NOUGHT
+
+
+def moved_boxes(boxes, factor, left, floor):
+    """The list of the boxes with all quotients times a factor, and then moved right and up."""
+    found = []
+    for box in boxes:
+        parts = [product_of_two(part, factor) for part in box]
+        found.append((sum_of_two(parts[0], left), sum_of_two(parts[1], floor), parts[2], parts[3]))
+    return found

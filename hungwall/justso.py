@@ -8,9 +8,7 @@ mixture is of the same ways.
 """
 
 from hungwall.beststreams import best_mixture, lengths_on
-from hungwall.quotients import (
-    difference_of_two, lies_below, product_of_two, ratio_of_two, reduced, sum_of_two,
-)
+from hungwall.quotients import difference_of_two, lies_below, product_of_two, ratio_of_two, reduced, sum_of_two
 from hungwall.reshaping import reshaped_in
 
 
@@ -35,9 +33,10 @@ def even_shape(plan, shapes, picture, ends, aim):
 
 def lies_between(ends, shape):
     """Whether a shape is strictly between two others, of which either may be the less one."""
-    if shape in ends:
-        return False
-    return lies_below(ends[0], shape) == lies_below(shape, ends[1])
+    low, high = ends
+    if lies_below(high, low):
+        low, high = high, low
+    return lies_below(low, shape) and lies_below(shape, high)
 
 
 def power_of_two(size):
@@ -66,7 +65,8 @@ def just_so(plan, shapes, picture, ends, aim):
     """A shape of a picture by which it is just so, from ends of which the first is before it, the second beyond."""
     while True:
         # Halving alone would never end; but it comes to where the ways do not change any more.
-        for shape in (even_shape(plan, shapes, picture, ends, aim), middle_of(ends)):
+        tries = [even_shape(plan, shapes, picture, ends, aim), middle_of(ends)]
+        for shape in tries:
             if shape is not None and lies_between(ends, shape):
                 side = aim.side(plan, reshaped_in(shapes, picture, shape))
                 if side == 0:

@@ -27,7 +27,7 @@ class PointAim:
 
     def side(self, plan, shapes):
         """Whether the first or third place of the ring is on its left (-1), the second or fourth (1), or none (0)."""
-        left = place_on_left(hung_in(plan, shapes), self.picture, self.ring)
+        left = place_on_left(hung_in(plan, shapes)[1], self.picture, self.ring)
         if left is None:
             return 0
         if left in (self.ring[0], self.ring[2]):

@@ -45,6 +45,14 @@ def loads_in(many, stream):
     return tuple(loads)
 
 
+def bar_by_stream(shapes, stream):
+    """What the height is at least by what is known to be a stream."""
+    amount = amount_in(stream)
+    loads = loads_in(len(shapes), stream)
+    parts = [ratio_of_two(product_of_two(load, load), shape) for load, shape in zip(loads, shapes)]
+    return ratio_of_two(product_of_two(amount, amount), sum_of_row(parts))
+
+
 def is_stream(plan, thing):
     """Whether any value is a stream of the plan."""
     need(is_plan(plan), "plan")
@@ -69,7 +77,4 @@ def stream_bar(plan, shapes, stream):
     """What the height is at least by a stream."""
     need_shapes(plan, shapes)
     need(streams_through(plan, stream), "stream")
-    amount = amount_in(stream)
-    loads = loads_in(len(plan), stream)
-    parts = [ratio_of_two(product_of_two(load, load), shape) for load, shape in zip(loads, shapes)]
-    return ratio_of_two(product_of_two(amount, amount), sum_of_row(parts))
+    return bar_by_stream(shapes, stream)

@@ -19,6 +19,14 @@ def weight_in(shapes, table):
     return sum_of_row([product_of_two(shape, product_of_two(one, one)) for shape, one in zip(shapes, table)])
 
 
+def bar_by_table(plan, shapes, table):
+    """What the height is at most by what is known to be a table; None if some level way has the length 0."""
+    least, _ = shortest_in(plan, "level", table)
+    if least[0] == 0:
+        return None
+    return ratio_of_two(weight_in(shapes, table), product_of_two(least, least))
+
+
 def table_weight(shapes, table):
     """The sum of shape times entry times entry."""
     need(is_shape_row(shapes) and len(shapes) > 0, "shapes")
@@ -30,6 +38,6 @@ def table_bar(plan, shapes, table):
     """What the height is at most by a table."""
     need_shapes(plan, shapes)
     need(is_table(len(plan), table), "table")
-    least, _ = shortest_in(plan, "level", table)
-    need(least[0] > 0, "table")
-    return ratio_of_two(weight_in(shapes, table), product_of_two(least, least))
+    bar = bar_by_table(plan, shapes, table)
+    need(bar is not None, "table")
+    return bar

@@ -215,12 +215,13 @@ class Passages(HungTest):
             (W, N, E, S), (0, 1, 2, S), (W, 0, 4, 3), ([0], 1, 2, 3),
         )
         self.refuses(passages_of, {"plan": FIVE, "ring": (0, 1, 2, 3)}, {"plan": NOT_PLANS, "ring": rings})
-        # Rings of four, but not of pictures alone.
-        for plan in (BARS, ((W, N, 1, S), (N, 2, S, 0), (N, E, S, 1))):
-            for ring in rings_of_four(plan):
-                if min(ring) < 0:
-                    for one in all_turns(ring):
-                        self.not_usable("ring", passages_of, plan, one)
+        # Rings of four, but not of pictures alone: with two sides, or with just one of any.
+        for plan in (BARS, ((W, N, 1, S), (N, 2, S, 0), (N, E, S, 1))) + PLANS[-4:]:
+            for one in (plan, turned(plan), turned(turned(plan)), turned(turned(turned(plan)))):
+                for ring in rings_of_four(one):
+                    if min(ring) < 0:
+                        for turn in all_turns(ring):
+                            self.not_usable("ring", passages_of, one, turn)
         self.refuses(rings_around, {"plan": FIVE, "picture": 4}, {"plan": NOT_PLANS, "picture": not_pictures(5)})
 
 

@@ -104,6 +104,17 @@ FUNCTIONS = {
     },
     "ranges": {"range_of": "plan stretches", "raised_height": "plan stretches count"},
     "ownfits": {"own_shape": "plan shapes picture height low high"},
+    "pages": {"fitted": "plan stretches height"},
+    "pagepapers": {"page_paper": "plan stretches height"},
+    "pagechecker": {"lets_page": "plan stretches height thing"},
+    "ringcases": {"ring_heights": "plan shapes ring", "ring_case": "plan shapes ring"},
+    "layings": {"laid_boxes": "outer picture inner", "hung_by_ring": "plan shapes ring"},
+    "ringtrees": {"ring_tree": "plan", "hung_by_tree": "plan shapes"},
+    "liveevents": {"is_event": "thing", "is_log": "thing"},
+    "replaying": {"replayed": "log"},
+    "eventtexts": {"event_line": "event"},
+    "eventreadings": {"read_event": "text"},
+    "desk": {"at_desk": "live text"},
 }
 CLASSES = {
     "planclasses": {
@@ -131,6 +142,16 @@ CLASSES = {
     },
     "fateclasses": {
         "Fates": {"__init__": "circles", "fate": "picture", "shown_paper": "picture", "placings": "one other"},
+    },
+    "pageclasses": {
+        "Page": {"__init__": "circles told", "fits": "height", "shapes_for": "height", "shown_paper": "height"},
+    },
+    "live": {
+        "LiveHung": {
+            "__init__": "circles told", "__eq__": "other", "__len__": "", "plan_now": "", "shapes_now": "", "height_now": "",
+            "hung_now": "", "points_now": "", "fates_now": "", "reason_for": "event", "go": "event", "tried": "event",
+            "do_all": "events keep", "undo": "steps", "log": "", "tally": "",
+        },
     },
     "ringclasses": {"Rings": {"__init__": "plan", "inside": "ring", "around": "picture"}},
     "errors": {

@@ -171,6 +171,16 @@ class Language(unittest.TestCase):
                 self.assertIsInstance(node, (ast.ImportFrom, ast.FunctionDef, ast.ClassDef))
 
     @of_each_file
+    def test_tables_of_functions(self, tree):
+        # A table at module level holds functions that the file itself defines above it.
+        above = set()
+        for node in tree.body:
+            if isinstance(node, ast.Assign):
+                self.assertLessEqual({name.id for name in nodes(node.value, ast.Name)}, above)
+            elif isinstance(node, ast.FunctionDef):
+                above.add(node.name)
+
+    @of_each_file
     def test_functions(self, tree):
         for node in nodes(tree, ast.FunctionDef):
             self.assertLessEqual(node.end_lineno - node.lineno + 1, 40, node.name)
