@@ -63,12 +63,13 @@ def narrowed(ends, shape, side):
 
 def just_so(plan, shapes, picture, ends, aim):
     """A shape of a picture by which it is just so, from ends of which the first is before it, the second beyond."""
+    span = ends
     while True:
         # Halving alone would never end; but it comes to where the ways do not change any more.
-        tries = [even_shape(plan, shapes, picture, ends, aim), middle_of(ends)]
+        tries = [even_shape(plan, shapes, picture, span, aim), middle_of(span)]
         for shape in tries:
-            if shape is not None and lies_between(ends, shape):
+            if shape is not None and lies_between(span, shape):
                 side = aim.side(plan, reshaped_in(shapes, picture, shape))
                 if side == 0:
                     return shape
-                ends = narrowed(ends, shape, side)
+                span = narrowed(span, shape, side)

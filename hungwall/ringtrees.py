@@ -24,11 +24,12 @@ def ring_tree(plan):
     """The tuple of the steps by which rings are shut, until none has two pictures inside."""
     need(is_plan(plan), "plan")
     steps = []
-    step = next_step(plan)
+    left = plan
+    step = next_step(left)
     while step is not None:
         steps.append(step)
-        plan, _ = shut_plan(plan, step[0])
-        step = next_step(plan)
+        left, _ = shut_plan(left, step[0])
+        step = next_step(left)
     return tuple(steps)
 
 

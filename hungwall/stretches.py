@@ -20,12 +20,12 @@ def is_stretch_row(thing):
 
 def low_ends(stretches):
     """The tuple of the low ends of what is known to be stretches."""
-    return tuple([low for low, _ in stretches])
+    return tuple([stretch[0] for stretch in stretches])
 
 
 def high_ends(stretches):
     """The tuple of the high ends of what is known to be stretches."""
-    return tuple([high for _, high in stretches])
+    return tuple([stretch[1] for stretch in stretches])
 
 
 def first_outside(stretches, shapes):

@@ -211,6 +211,8 @@ class Language(unittest.TestCase):
         self.assertFalse((names | methods) & BARRED)
         # The underscore alone is assigned and never read.
         self.assertNotIn("_", read)
+        for node in nodes(tree, ast.comprehension):
+            self.assertNotIn("_", {name.id for name in nodes(node.target, ast.Name)})
         names.discard("_")
         self.assertFalse([name for name in names if hasattr(builtins, name) or name.startswith("_")])
         self.assertFalse([name for name in methods - SPECIAL if name.startswith("_")])
